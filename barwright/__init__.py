@@ -1,0 +1,1 @@
+"""Barwright: a setter of notes."""
