@@ -30,6 +30,16 @@ WORDS_NOWHERE = re.compile(
 
 NAMES_NOWHERE = """register mro elements open input version_info with_traceback add_note format format_map""".split()
 
+# What is walked on the spot, and within which calls that may be.
+WALKED = ["zip", "enumerate", "reversed", "range"]
+WALKED_METHODS = ["items", "keys", "values"]
+WALKERS = ["list", "tuple", "dict", "sorted", "sum", "any", "all", "enumerate", "zip", "min", "max"]
+
+KEYWORDS = {"sorted": ["key", "reverse"], "min": ["key", "default"], "max": ["key", "default"], "sum": ["start"],
+            "enumerate": ["start"], "zip": ["strict"]}
+
+VALUES_LIKE_METHODS = "count index title find get join lower upper split strip copy add".split()
+
 
 def files():
     # Python lays __pycache__ there itself, and git passes it over.
@@ -59,6 +69,24 @@ def bound_names(node):
     if isinstance(node, ast.Attribute):
         return [node.attr]
     return []
+
+
+def top_names(node):
+    if isinstance(node, ast.ImportFrom):
+        return [alias.name for alias in node.names]
+    if isinstance(node, ast.Assign):
+        return [target.id for target in node.targets]
+    if isinstance(node, (ast.FunctionDef, ast.ClassDef)):
+        return [node.name]
+    return []
+
+
+def is_walked(node):
+    if not isinstance(node, ast.Call):
+        return False
+    if isinstance(node.func, ast.Name):
+        return node.func.id in WALKED
+    return isinstance(node.func, ast.Attribute) and node.func.attr in WALKED_METHODS
 
 
 class TestForm(unittest.TestCase):
@@ -93,6 +121,8 @@ class TestForm(unittest.TestCase):
                 self.fail_at(name, node, "else behind a loop")
             if isinstance(node, ast.Try) and node.finalbody:
                 self.fail_at(name, node, "finally")
+            if isinstance(node, ast.Expr) and not isinstance(node.value, ast.Call) and node.lineno > 1:
+                self.fail_at(name, node, "a value by itself")
             if isinstance(node, ast.Assign) and len(node.targets) > 1:
                 self.fail_at(name, node, "more than one target")
             if isinstance(node, ast.ExceptHandler) and node.type is None:
@@ -142,6 +172,68 @@ class TestForm(unittest.TestCase):
             if isinstance(node, ast.Call) and isinstance(node.func, ast.Attribute):
                 if node.func.attr not in METHODS + methods:
                     self.fail_at(name, node, node.func.attr)
+
+    def test_names_are_bound_once_at_a_top(self):
+        for name, tree in trees():
+            bound = [word for node in tree.body for word in top_names(node)]
+            self.assertEqual(len(bound), len(set(bound)), name)
+
+    def test_no_local_is_called_like_a_class_or_an_import(self):
+        for name, tree in trees():
+            taken = [word for node in tree.body if isinstance(node, (ast.ImportFrom, ast.ClassDef))
+                     for word in top_names(node)]
+            for top in tree.body:
+                for node in ast.walk(top):
+                    is_local = isinstance(node, (ast.arg, ast.Name, ast.FunctionDef)) and node not in tree.body
+                    if is_local and any(word in taken for word in bound_names(node)):
+                        self.fail_at(name, node, "a local that is called like a class or an import")
+
+    def test_no_name_is_a_method_and_a_value(self):
+        methods = [method.name for name, node in every_node() if isinstance(node, ast.ClassDef)
+                   for method in node.body if isinstance(method, ast.FunctionDef)]
+        own = [word for kind in (str, int, list, tuple, dict, set, bytes) for word in dir(kind)]
+        for name, node in every_node():
+            if isinstance(node, ast.Attribute) and isinstance(node.ctx, ast.Store):
+                if node.attr in methods:
+                    self.fail_at(name, node, node.attr + " is a method and a value")
+                if node.attr in own + ["args"] and node.attr not in VALUES_LIKE_METHODS:
+                    self.fail_at(name, node, node.attr + " is a value's name of Python's own")
+
+    def test_walked_on_the_spot(self):
+        for name, tree in trees():
+            above = {part: node for node in ast.walk(tree) for part in ast.iter_child_nodes(node)}
+            for node in ast.walk(tree):
+                if not is_walked(node):
+                    continue
+                over = above[node]
+                in_loop = isinstance(over, (ast.For, ast.comprehension)) and over.iter is node
+                in_call = isinstance(over, ast.Call) and isinstance(over.func, ast.Name) and (
+                    over.func.id in WALKERS and node in over.args)
+                if not in_loop and not in_call:
+                    self.fail_at(name, node, "is walked elsewhere")
+
+    def test_keywords(self):
+        for name, node in every_node():
+            if isinstance(node, ast.Call):
+                called = node.func.id if isinstance(node.func, ast.Name) else ""
+                for keyword in node.keywords:
+                    if called in PYTHONS_OWN and keyword.arg not in KEYWORDS.get(called, []):
+                        self.fail_at(name, node, str(keyword.arg))
+
+    def test_lists_and_dicts_of_a_top_are_not_handed_on(self):
+        for name, tree in trees():
+            kept = [node.targets[0].id for node in tree.body
+                    if isinstance(node, ast.Assign) and isinstance(node.value, (ast.List, ast.Dict))]
+            above = {part: node for node in ast.walk(tree) for part in ast.iter_child_nodes(node)}
+            for node in ast.walk(tree):
+                if isinstance(node, ast.Name) and node.id in kept and isinstance(node.ctx, ast.Load):
+                    over = above[node]
+                    is_read = isinstance(over, (ast.Subscript, ast.Compare, ast.For, ast.comprehension))
+                    is_copied = isinstance(over, ast.Call) and isinstance(over.func, ast.Name) and (
+                        over.func.id in ("len", "list", "dict", "tuple", "sorted"))
+                    is_asked = isinstance(over, ast.Attribute) and over.attr in WALKED_METHODS + ["get", "count", "index"]
+                    if not is_read and not is_copied and not is_asked:
+                        self.fail_at(name, node, node.id + " is handed on")
 
     def test_imports(self):
         drawn = {}
