@@ -1,14 +1,19 @@
-"""Keys: how steps lean by them, and moving them by an interval."""
+"""Keys, their words, how steps lean by them, and moving them by an interval."""
 
 from barwright.errors import OutOfReach
 from barwright.pitches import fifths
-from barwright.words import is_among
+from barwright.words import is_among, number_of
 
 MOST_SIGNS = 7
 
 
 def is_key(thing):
     return is_among(thing, -MOST_SIGNS, MOST_SIGNS)
+
+
+def key_of(word):
+    key = number_of(word)
+    return key if is_key(key) else None
 
 
 def key_lean(key, step):

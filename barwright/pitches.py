@@ -17,14 +17,21 @@ def is_pitch(thing):
 
 
 def pitch_of(word):
+    parts = parts_of(word)
+    if parts is None or parts[1] not in LEAN_WORDS:
+        return None
+    return (parts[0], LEAN_WORDS.index(parts[1]) - 2, parts[2])
+
+
+# A step, whatever text stands behind its letter, and an octave: heads on a staff have other texts there.
+def parts_of(word):
     if not isinstance(word, str) or len(word) < 2:
         return None
     step = LETTERS.find(word[0])
     octave = OCTAVE_FIGURES.find(word[-1])
-    lean_word = word[1:-1]
-    if step < 0 or octave < 0 or lean_word not in LEAN_WORDS:
+    if step < 0 or octave < 0:
         return None
-    return (step, LEAN_WORDS.index(lean_word) - 2, octave)
+    return (step, word[1:-1], octave)
 
 
 def pitch_text(pitch):

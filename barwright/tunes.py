@@ -4,7 +4,7 @@ from barwright.errors import BadTune
 from barwright.keys import is_key
 from barwright.metres import bar_grains, is_metre
 from barwright.pitches import is_pitch, line
-from barwright.words import is_among, is_syllable, is_whole
+from barwright.words import do_rise, is_among, is_syllable, is_whole
 
 LEAST_GRAINS = 2
 MOST_REST_GRAINS = 4608
@@ -107,10 +107,6 @@ def are_tones(thing):
     if not isinstance(thing, list) or not 1 <= len(thing) <= MOST_PITCHES:
         return False
     return all([is_pitch(pitch) for pitch in thing]) and do_rise([line(pitch) for pitch in thing])
-
-
-def do_rise(numbers):
-    return all([one < other for one, other in zip(numbers, numbers[1:])])
 
 
 def is_word(thing):

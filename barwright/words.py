@@ -15,6 +15,10 @@ def is_among(thing, least, most):
     return is_whole(thing) and least <= thing <= most
 
 
+def do_rise(numbers):
+    return all([one < other for one, other in zip(numbers, numbers[1:])])
+
+
 def has_only(text, signs):
     # isalpha and isdigit would let by the letters and figures of other scripts.
     return all([sign in signs for sign in text])

@@ -1,9 +1,9 @@
 import unittest
 
 from barwright.errors import BadTune, OutOfReach, TuneError
-from barwright.keys import aside, is_key, key_lean, moved_key
+from barwright.keys import aside, is_key, key_lean, key_of, moved_key
 from barwright.pitches import moved_pitch
-from oddments import no_numbers
+from oddments import no_numbers, no_texts
 
 LETTERS = "cdefgab"
 KEYS = list(range(-7, 8))
@@ -47,6 +47,20 @@ class TestIsKey(unittest.TestCase):
         thing = [1, [2]]
         is_key(thing)
         self.assertEqual(thing, [1, [2]])
+
+
+class TestKeyOf(unittest.TestCase):
+    def test_all_and_just_beyond(self):
+        for number in range(-30, 31):
+            self.assertEqual(key_of(str(number)), number if -7 <= number <= 7 else None)
+
+    def test_words_of_no_number(self):
+        for word in ("", "-", "-0", "+1", "00", "01", "-01", "1.0", " 1", "1 ", "1\n", "c", "k1", "--1", "9999"):
+            self.assertIsNone(key_of(word), word)
+
+    def test_what_is_no_text(self):
+        for thing in no_texts():
+            self.assertIsNone(key_of(thing))
 
 
 class TestLean(unittest.TestCase):

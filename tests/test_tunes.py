@@ -7,11 +7,8 @@ from barwright.errors import BadTune, TuneError
 from barwright.metres import bar_grains
 from barwright.tunes import Rest, Tones, Tune
 from oddments import Unfriendly, no_numbers
-from samples import C4, E4, G4, rest, tones
+from samples import ALL_METRES, C4, E4, FOUR, G4, SIX, THREE, everything, rest, tones
 
-FOUR = (4, 4, ())
-THREE = (3, 4, ())
-SIX = (6, 8, ())
 SIX_GROUPED = (6, 8, (3, 3))
 EIGHTH = (1, 8, ())
 LONG = (4, 2, ())
@@ -268,13 +265,12 @@ class TestBars(TuneCase):
 
     def test_frames_of_many(self):
         chance = random.Random(32)
-        every = [(top, bottom, ()) for bottom, most in ((2, 4), (4, 8), (8, 12)) for top in range(1, most + 1)]
         for case in range(300):
             bars = chance.randint(1, 24)
-            metres = [chance.choice(every)]
+            metres = [chance.choice(ALL_METRES)]
             keys = [chance.randint(-7, 7)]
             for bar in range(1, bars):
-                metres.append(chance.choice([metres[-1], chance.choice(every)]))
+                metres.append(chance.choice([metres[-1], chance.choice(ALL_METRES)]))
                 keys.append(chance.choice([keys[-1], chance.randint(-7, 7)]))
             begins = [sum(map(bar_grains, metres[:bar])) for bar in range(bars)]
             whole = sum(map(bar_grains, metres))
@@ -328,10 +324,6 @@ class TestTune(TuneCase):
         self.assertEqual(again.sounds_told(1), tune.sounds_told(1))
         self.assertEqual(again.frames(), tune.frames())
 
-    def everything(self, tune):
-        voices = [tune.sounds_told(voice + 1) for voice in range(tune.many())]
-        return copy.deepcopy((tune.metres_told(), tune.keys_told(), voices, tune.lasts(), tune.frames()))
-
     def test_handed_in_lists_are_neither_changed_nor_kept(self):
         pitches = [C4, E4]
         voice = [rest(12), rest(12), ("tones", pitches, 200, "la", False, False), rest(24)]
@@ -341,18 +333,18 @@ class TestTune(TuneCase):
         before = copy.deepcopy((metres, keys, voices))
         tune = Tune(metres, keys, voices)
         self.assertEqual((metres, keys, voices), before)
-        told = self.everything(tune)
+        told = everything(tune)
         pitches.append(G4)
         voice.clear()
         voices.pop()
         metres[1] = (2, SIX)
         metres.append((3, FOUR))
         keys.clear()
-        self.assertEqual(self.everything(tune), told)
+        self.assertEqual(everything(tune), told)
 
     def test_told_lists_are_the_askers_own(self):
         tune = self.tune([[tones([C4, E4], 100), tones()], [tones()]], [(1, FOUR), (2, THREE)], [(1, 0), (2, 1)])
-        before = self.everything(tune)
+        before = everything(tune)
         sounds = tune.sounds_told(1)
         sounds[0][1].append(G4)
         sounds[0][1][0] = G4
@@ -361,7 +353,7 @@ class TestTune(TuneCase):
         tune.keys_told().clear()
         tune.frames()[0] = None
         tune.frames().pop()
-        self.assertEqual(self.everything(tune), before)
+        self.assertEqual(everything(tune), before)
 
     def test_what_was_told_stays(self):
         tune = self.tune([[tones([C4, E4], 100), tones()]])

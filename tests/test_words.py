@@ -1,7 +1,7 @@
 import string
 import unittest
 
-from barwright.words import is_among, is_syllable, is_whole, number_of, number_text, words_of
+from barwright.words import do_rise, is_among, is_syllable, is_whole, number_of, number_text, words_of
 from oddments import no_numbers, no_texts
 
 TEXT_SIGNS = [chr(code) for code in range(32, 127) if chr(code) != chr(37)] + ["\n"]
@@ -44,6 +44,16 @@ class TestAmong(unittest.TestCase):
     def test_nothing_else_is(self):
         for thing in no_numbers() + ["", "1", (), (1,)]:
             self.assertIs(is_among(thing, -10, 10), False)
+
+
+class TestRise(unittest.TestCase):
+    def test_rising(self):
+        for numbers in ([], [3], [1, 2], [-5, 0, 7, 8]):
+            self.assertIs(do_rise(numbers), True, numbers)
+
+    def test_not_rising(self):
+        for numbers in ([1, 1], [2, 1], [1, 2, 2], [1, 3, 2], [3, 1, 2], [1, 2, 3, 0]):
+            self.assertIs(do_rise(numbers), False, numbers)
 
 
 class TestSyllable(unittest.TestCase):
