@@ -2,7 +2,9 @@
 
 import copy
 
+from barwright.errors import TooFine
 from barwright.metres import bar_grains
+from barwright.threes import need_fine
 from barwright.tunes import Tune
 
 C4 = (0, 0, 4)
@@ -17,6 +19,13 @@ SIX = (6, 8, ())
 
 ALL_METRES = [(top, bottom, ()) for bottom, most in ((2, 4), (4, 8), (8, 12)) for top in range(1, most + 1)]
 GROUPED = [(7, 8, (3, 2, 2)), (7, 8, (2, 2, 3)), (5, 4, (3, 2)), (4, 4, (4,)), (8, 8, (5, 3)), (5, 8, (5,))]
+
+
+# Lengths of which tunes are made that can be written: plain, in threes, and mixed.
+FINE_LENGTHS = [[12, 24, 36, 48], [3, 6, 9, 15, 24, 27], [8, 16, 24, 48], [4, 8, 12, 24, 96], [8, 12, 16, 24, 32, 48],
+                [2, 4, 6, 12, 22], [24, 30, 96, 150, 192, 384]]
+ALL_LINES = range(63)
+FEW_LINES = range(28, 37)
 
 
 def rest(length):
@@ -43,13 +52,13 @@ def chance_changes(chance, bars, pick):
     return changes
 
 
-def chance_pitches(chance):
-    """One to four pitches whose lines rise."""
-    lines = sorted(chance.sample(range(63), chance.choice([1, 1, 1, 2, 3, 4])))
-    return [(number % 7, chance.randint(-2, 2), number // 7) for number in lines]
+def chance_pitches(chance, lines=ALL_LINES):
+    """One to four pitches whose lines rise, and are among the given ones."""
+    rising = sorted(chance.sample(lines, chance.choice([1, 1, 1, 2, 3, 4])))
+    return [(number % 7, chance.randint(-2, 2), number // 7) for number in rising]
 
 
-def chance_voice(chance, lasts, lengths):
+def chance_voice(chance, lasts, lengths, lines=ALL_LINES):
     """A tidy voice that lasts so long, or a grain less; its lengths are among the given ones where they can be."""
     sounds = []
     left = lasts
@@ -66,17 +75,28 @@ def chance_voice(chance, lasts, lengths):
         opens = (closes or not is_open) and left >= 2 and chance.randint(0, 2) == 0
         is_open = opens or is_open and not closes
         word = chance.choice(["", "la", "Ky-", "-", "abcdefghijkl"])
-        sounds.append(tones(chance_pitches(chance), length, word, opens, closes))
+        sounds.append(tones(chance_pitches(chance, lines), length, word, opens, closes))
     return sounds
 
 
-def chance_tune(chance, lengths):
+def chance_tune(chance, lengths, lines=ALL_LINES):
     bars = chance.randint(1, 12)
     metres = chance_changes(chance, bars, lambda: chance.choice(ALL_METRES + GROUPED))
     keys = chance_changes(chance, bars, lambda: chance.randint(-7, 7))
     by_bars = [[metre for at, metre in metres if at <= bar][-1] for bar in range(1, bars + 1)]
     lasts = sum(bar_grains(metre) for metre in by_bars) - chance.choice([0, 0, 2, 4, 6, 10])
-    voices = [chance_voice(chance, lasts, lengths)]
+    voices = [chance_voice(chance, lasts, lengths, lines)]
     if chance.randint(0, 1):
-        voices.insert(chance.randint(0, 1), chance_voice(chance, chance.randint(2, lasts), lengths))
+        voices.insert(chance.randint(0, 1), chance_voice(chance, chance.randint(2, lasts), lengths, lines))
     return Tune(metres, keys, voices)
+
+
+def fine_tune(chance, lengths, lines=ALL_LINES):
+    """A chance tune whose beats can all be written."""
+    while True:
+        tune = chance_tune(chance, lengths, lines)
+        try:
+            need_fine(tune)
+        except TooFine:
+            continue
+        return tune
